@@ -1,0 +1,1 @@
+"""Oftenlots: things often bought together, kept while days come and go."""

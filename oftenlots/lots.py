@@ -1,0 +1,40 @@
+"""Lots as numbers: the thing k is in a lot where its bit k is 1."""
+
+
+# Of a book's many things this is the lot of all things.
+def things_below(number):
+    return (1 << number) - 1
+
+
+def has(one, other):
+    return (one & other) == other
+
+
+def has_thing(lot, thing):
+    return has(lot, 1 << thing)
+
+
+def with_thing(lot, thing):
+    return lot | (1 << thing)
+
+
+def all_lots(many):
+    return list(range(things_below(many) + 1))
+
+
+def things_lacking(many, lot):
+    return [thing for thing in range(many) if not has_thing(lot, thing)]
+
+
+def things_in(lot):
+    return [thing for thing in range(lot.bit_length()) if has_thing(lot, thing)]
+
+
+# Rising, the empty lot and the lot itself among them.
+def lots_within(lot):
+    return [part for part in range(lot + 1) if has(lot, part)]
+
+
+# Each without another one of the lot's things.
+def one_thing_fewer(lot):
+    return [lot - (1 << thing) for thing in things_in(lot)]

@@ -1,0 +1,198 @@
+"""Point [2]: kinds, what is handed in stays, what is told is the asker's own."""
+
+import copy
+import unittest
+
+import plain
+from oftenlots.books import closing, common, count, holders, is_closed
+from oftenlots.closed import closed_holds, closed_lots, closed_paper, going
+from oftenlots.leastlots import all_least, by_closed, by_least, kin, least_lots
+
+BAD = object()
+
+
+# In the second one several lots have no holders, so that several lists are empty; the third has no baskets.
+BOOKS = [(4, [3, 7, 0, 1, 3, 15, 12]), (3, [1, 2, 4, 0, 1, 2]), (3, [])]
+
+
+def questions():
+    """Each a function and what is handed in: made anew at each call, so that a test may change it."""
+    asked = []
+    for book in BOOKS:
+        asked += questions_of(book)
+    asked += [(common, BOOKS[0], [1, 0, 1]), (common, BOOKS[0], [3])]
+    return [(row[0], copy.deepcopy(row[1:])) for row in asked]
+
+
+def questions_of(book):
+    whole = 2 ** book[0] - 1
+    asked = [(common, book, []), (closed_lots, book, plain.FORTY), (least_lots, book, whole), (kin, book, whole)]
+    for lot in (0, 1, 2, 3, whole):
+        asked += [(ask, book, lot) for ask in (count, holders, closing, is_closed)]
+    for least in (1, 2, 3):
+        closed = plain.closed_lots(book, least)
+        leasts = plain.all_least(book, least)
+        rares = plain.least_rare(book, least)
+        paper = plain.closed_paper(book, least)
+        asked += [(ask, book, least) for ask in (closed_lots, going, closed_paper, all_least)]
+        asked += [(closed_holds, book, least, paper), (closed_holds, book, least, paper[:-1])]
+        asked += [(by_closed, closed, 2), (by_closed, closed, whole)]
+        asked += [(by_least, leasts, rares, 2), (by_least, leasts, rares, whole)]
+    return asked
+
+
+def spoil(value):
+    """Changes every list within, the inner ones first."""
+    for inner in reversed(list(plain.lists_in(value))):
+        inner.reverse()
+        inner.append(BAD)
+
+
+class Kinds(unittest.TestCase):
+    def test_told_values_are_of_plain_kinds(self):
+        for ask, handed in questions():
+            for part in plain.all_in(ask(*handed)):
+                with self.subTest(ask=ask.__name__):
+                    self.assertIn(type(part), (int, bool, str, list, tuple, type(None)))
+
+    def test_truths_only_where_a_truth_is_told(self):
+        for ask, handed in questions():
+            told = ask(*handed)
+            if ask in (is_closed, closed_holds):
+                self.assertIs(type(told), bool)
+            else:
+                self.assertFalse(any(isinstance(part, bool) for part in plain.all_in(told)))
+
+    def test_outer_kinds(self):
+        whole = (count, common, closing, kin)
+        lists = (holders, closed_lots, going, closed_paper, least_lots, all_least)
+        for ask, handed in questions():
+            told = ask(*handed)
+            if ask in whole:
+                self.assertIs(type(told), int)
+            if ask in lists:
+                self.assertIs(type(told), list)
+            if ask in (closed_lots, going, closed_paper, all_least):
+                self.assertTrue(all(type(row) is tuple for row in told))
+        for row in closed_paper((2, [0, 1]), 1):
+            self.assertIs(type(row[2]), list)
+            self.assertTrue(all(type(reason) is tuple for reason in row[2]))
+
+
+class HandedIn(unittest.TestCase):
+    def test_it_stays(self):
+        for ask, handed in questions():
+            before = copy.deepcopy(handed)
+            ask(*handed)
+            with self.subTest(ask=ask.__name__):
+                self.assertEqual(handed, before)
+
+    def test_what_was_told_stays_behind_changes_of_it(self):
+        for ask, handed in questions():
+            told = ask(*handed)
+            as_told = copy.deepcopy(told)
+            spoil(handed)
+            with self.subTest(ask=ask.__name__):
+                self.assertEqual(told, as_told)
+
+    def test_a_changed_list_is_answered_as_it_stands_then(self):
+        book = (3, [3, 7, 0])
+        others = [[1, 1, 6, 7], [], [7] * 5, [0]]
+        for baskets in others:
+            for ask in (closed_lots, going, closed_paper, all_least):
+                ask(book, 1)
+            book[1][:] = baskets
+            fresh = (3, list(baskets))
+            self.assertEqual(closed_lots(book, 1), plain.closed_lots(fresh, 1))
+            self.assertEqual(going(book, 1), plain.going(fresh, 1))
+            self.assertEqual(closed_paper(book, 1), plain.closed_paper(fresh, 1))
+            self.assertEqual(all_least(book, 1), plain.all_least(fresh, 1))
+            self.assertEqual(holders(book, 1), plain.holders(fresh, 1))
+            self.assertEqual(count(book, 1), plain.count(fresh, 1))
+            self.assertEqual(closing(book, 1), plain.closing(fresh, 1))
+            self.assertEqual(least_lots(book, 7), plain.least_lots(fresh, 7))
+            self.assertEqual(kin(book, 7), plain.kin(fresh, 7))
+
+    def test_changing_it_behind_changes_no_answer_of_a_like_one(self):
+        first = [ask(*handed) for ask, handed in questions()]
+        for ask, handed in questions():
+            ask(*handed)
+            spoil(handed)
+        self.assertEqual([ask(*handed) for ask, handed in questions()], first)
+
+    def test_a_looked_at_paper_that_is_changed_is_looked_at_anew(self):
+        book = (2, [0, 1])
+        paper = closed_paper(book, 1)
+        self.assertIs(closed_holds(book, 1, paper), True)
+        paper[0][2].pop()
+        self.assertIs(closed_holds(book, 1, paper), False)
+
+
+class AskersOwn(unittest.TestCase):
+    def test_each_list_stands_at_one_place_alone(self):
+        for ask, handed in questions():
+            inner = list(plain.lists_in(ask(*handed)))
+            with self.subTest(ask=ask.__name__):
+                self.assertEqual(len({id(one) for one in inner}), len(inner))
+
+    def test_no_list_is_one_that_was_handed_in(self):
+        for ask, handed in questions():
+            theirs = {id(one) for one in plain.lists_in(handed)}
+            self.assertFalse(any(id(one) in theirs for one in plain.lists_in(ask(*handed))))
+
+    def test_no_list_is_told_twice(self):
+        for ask, handed in questions():
+            first = ask(*handed)
+            again = ask(*handed)
+            theirs = {id(one) for one in plain.lists_in(first)}
+            self.assertFalse(any(id(one) in theirs for one in plain.lists_in(again)))
+
+    def test_changing_what_was_told_changes_no_later_answer(self):
+        for ask, handed in questions():
+            told = ask(*handed)
+            as_told = copy.deepcopy(told)
+            spoil(told)
+            with self.subTest(ask=ask.__name__):
+                self.assertEqual(ask(*handed), as_told)
+
+    def test_changing_what_was_told_changes_no_answer_of_a_like_question(self):
+        as_told = copy.deepcopy([ask(*handed) for ask, handed in questions()])
+        for ask, handed in questions():
+            spoil(ask(*handed))
+        self.assertEqual([ask(*handed) for ask, handed in questions()], as_told)
+
+    def test_the_same_is_answered_the_same_behind_all_other_questions(self):
+        told = [ask(*handed) for ask, handed in questions()]
+        as_told = copy.deepcopy(told)
+        for book in plain.small_books(15):
+            for least in (1, 2):
+                closed_paper(book, least)
+                going(book, least)
+                all_least(book, least)
+                kin(book, 2 ** book[0] - 1)
+        self.assertEqual(told, as_told)
+        self.assertEqual([ask(*handed) for ask, handed in reversed(questions())], as_told[::-1])
+        self.assertEqual(told, as_told)
+
+
+class GreatNumbers(unittest.TestCase):
+    def test_time_does_not_hang_on_them(self):
+        book = plain.widest_book()
+        great = plain.FORTY
+        row = (great, great, [(great, "leads", great), (-great, "rare", [great, -great])])
+        papers = [[row], [(-great,) + row[1:]], [(0,) + row[1:]], [(0, 200, row[2])], [(0, 200, [])],
+                  [(2 ** 12, 0, [])], [(great - 1, 0, []), (great, 0, [])]]
+        with plain.within_seconds(60):
+            self.assertEqual(closed_lots(book, great), [])
+            self.assertEqual(going(book, great), [])
+            self.assertEqual(closed_paper(book, great), [])
+            self.assertEqual(all_least((8, [255] * 60), great), [])
+            for paper in papers:
+                self.assertIs(closed_holds(book, 1, paper), False)
+                self.assertIs(closed_holds(book, great, paper), False)
+                self.assertIs(closed_holds((1, []), 1, paper), False)
+            self.assertIs(closed_holds(book, great, []), True)
+
+
+if __name__ == "__main__":
+    unittest.main()
