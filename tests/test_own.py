@@ -4,11 +4,28 @@ import copy
 import unittest
 
 import plain
+import plainrules
 from oftenlots.books import closing, common, count, holders, is_closed
 from oftenlots.closed import closed_holds, closed_lots, closed_paper, going
+from oftenlots.fewrules import few_rules, served, short_rules, way
 from oftenlots.leastlots import all_least, by_closed, by_least, kin, least_lots
+from oftenlots.neighbours import above, baskets_of, below, join, just, longest, meet
+from oftenlots.rules import brought_on, follow_holds, follows, holds, rule_count, share
 
 BAD = object()
+NONE = type(None)
+
+# The kinds of what each tells, and of what stands in it where it is a list.
+KINDS = {
+    count: [int], holders: [list, int], common: [int], closing: [int], is_closed: [bool],
+    closed_lots: [list, tuple], going: [list, tuple], closed_paper: [list, tuple], closed_holds: [bool],
+    least_lots: [list, int], all_least: [list, tuple], by_closed: [int, NONE], by_least: [int, NONE], kin: [int],
+    above: [list, int], below: [list, int], meet: [int], join: [int], longest: [list, int], just: [list, tuple],
+    baskets_of: [list, int],
+    rule_count: [int], share: [tuple, NONE], holds: [bool], brought_on: [tuple], follows: [tuple],
+    follow_holds: [bool],
+    few_rules: [list, tuple], served: [list, int, NONE], way: [list, int], short_rules: [list, tuple],
+}
 
 
 # In the second one several lots have no holders, so that several lists are empty; the third has no baskets.
@@ -38,6 +55,31 @@ def questions_of(book):
         asked += [(closed_holds, book, least, paper), (closed_holds, book, least, paper[:-1])]
         asked += [(by_closed, closed, 2), (by_closed, closed, whole)]
         asked += [(by_least, leasts, rares, 2), (by_least, leasts, rares, whole)]
+    return asked + neighbour_questions(book) + rule_questions(book)
+
+
+def neighbour_questions(book):
+    asked = [(meet, 5, 6), (join, book, 0, 0), (join, book, 1, 2)]
+    asked += [(ask, plain.closed_lots(book, 1)) for ask in (just, baskets_of)]
+    for least in (1, 2, 3):
+        closed = plain.closed_lots(book, least)
+        asked += [(longest, closed)]
+        for lot, own in closed:
+            asked += [(ask, closed, lot) for ask in (above, below)]
+            asked += [(way, closed, closed[0][0], lot), (way, closed, lot, lot)]
+    return asked
+
+
+def rule_questions(book):
+    whole = 2 ** book[0] - 1
+    rules = plainrules.few_rules(book)
+    asked = [(few_rules, book), (served, book, rules), (served, book, rules[1:] + rules), (served, book, [])]
+    for rule in ((0, 0), (1, 2), (2, 1), (4, 3), (whole, 0), (0, whole)):
+        asked += [(ask, book, rule) for ask in (rule_count, share, holds)]
+        asked += [(follows, rules, rule), (follow_holds, rules, rule, plainrules.follows(rules, rule))]
+        asked += [(follow_holds, rules, rule, ("by", [0, 0, 1])), (follow_holds, rules, rule, ("shut", whole))]
+        asked += [(brought_on, rules, rule[0]), (follows, [], rule), (brought_on, [], rule[0])]
+    asked += [(short_rules, book, least, told) for least in (1, 2) for told in ((0, 1), (2, 3), (2, 1))]
     return asked
 
 
@@ -55,28 +97,30 @@ class Kinds(unittest.TestCase):
                 with self.subTest(ask=ask.__name__):
                     self.assertIn(type(part), (int, bool, str, list, tuple, type(None)))
 
+    def test_outer_kinds(self):
+        met = {ask: [] for ask in KINDS}
+        for ask, handed in questions():
+            told = ask(*handed)
+            met[ask].append(type(told))
+            if type(told) is list:
+                met[ask] += [type(part) for part in told]
+        for ask, kinds in met.items():
+            with self.subTest(ask=ask.__name__):
+                self.assertEqual(set(kinds), set(KINDS[ask]))
+
     def test_truths_only_where_a_truth_is_told(self):
         for ask, handed in questions():
-            told = ask(*handed)
-            if ask in (is_closed, closed_holds):
-                self.assertIs(type(told), bool)
-            else:
-                self.assertFalse(any(isinstance(part, bool) for part in plain.all_in(told)))
+            if bool not in KINDS[ask]:
+                self.assertFalse(any(isinstance(part, bool) for part in plain.all_in(ask(*handed))))
 
-    def test_outer_kinds(self):
-        whole = (count, common, closing, kin)
-        lists = (holders, closed_lots, going, closed_paper, least_lots, all_least)
-        for ask, handed in questions():
-            told = ask(*handed)
-            if ask in whole:
-                self.assertIs(type(told), int)
-            if ask in lists:
-                self.assertIs(type(told), list)
-            if ask in (closed_lots, going, closed_paper, all_least):
-                self.assertTrue(all(type(row) is tuple for row in told))
+    def test_inner_kinds(self):
         for row in closed_paper((2, [0, 1]), 1):
             self.assertIs(type(row[2]), list)
             self.assertTrue(all(type(reason) is tuple for reason in row[2]))
+        self.assertIs(type(brought_on([(1, 2)], 1)[1]), list)
+        self.assertIs(type(follows([(1, 2)], (1, 2))[1]), list)
+        self.assertIs(type(follows([(1, 2)], (1, 4))[1]), int)
+        self.assertTrue(all(type(row[3]) is tuple for row in short_rules(BOOKS[0], 1, (0, 1))))
 
 
 class HandedIn(unittest.TestCase):
@@ -112,6 +156,26 @@ class HandedIn(unittest.TestCase):
             self.assertEqual(closing(book, 1), plain.closing(fresh, 1))
             self.assertEqual(least_lots(book, 7), plain.least_lots(fresh, 7))
             self.assertEqual(kin(book, 7), plain.kin(fresh, 7))
+            self.assertEqual(few_rules(book), plainrules.few_rules(fresh))
+            self.assertEqual(served(book, [(0, 7)]), plainrules.served(fresh, [(0, 7)]))
+            self.assertEqual(short_rules(book, 1, (0, 1)), plainrules.short_rules(fresh, 1, (0, 1)))
+            self.assertEqual(share(book, (1, 2)), plainrules.share(fresh, (1, 2)))
+            self.assertEqual(join(book, 1, 2), plain.closing(fresh, 3))
+
+    def test_changed_rules_and_closed_lots_are_answered_as_they_stand_then(self):
+        rules = [(1, 2)]
+        self.assertEqual(brought_on(rules, 1), (3, [0]))
+        rules.insert(0, (1, 4))
+        self.assertEqual(brought_on(rules, 1), (7, [0, 1]))
+        self.assertEqual(follows(rules, (1, 2)), ("by", [0, 1]))
+        rules.pop()
+        self.assertEqual(follows(rules, (1, 2)), ("shut", 5))
+        closed = [(0, 5), (1, 4), (3, 3), (7, 1)]
+        self.assertEqual((above(closed, 1), longest(closed)), ([3], [0, 1, 3, 7]))
+        closed.pop(2)
+        self.assertEqual((above(closed, 1), longest(closed)), ([7], [0, 1, 7]))
+        self.assertEqual((below(closed, 7), way(closed, 0, 7)), ([1], [0, 1, 7]))
+        self.assertEqual(baskets_of(closed), [0, 1, 1, 1, 7])
 
     def test_changing_it_behind_changes_no_answer_of_a_like_one(self):
         first = [ask(*handed) for ask, handed in questions()]
@@ -170,6 +234,13 @@ class AskersOwn(unittest.TestCase):
                 going(book, least)
                 all_least(book, least)
                 kin(book, 2 ** book[0] - 1)
+                closed = closed_lots(book, least)
+                longest(closed)
+                short_rules(book, least, (0, 1))
+            rules = few_rules(book)
+            served(book, rules)
+            follows(rules, (0, 2 ** book[0] - 1))
+            baskets_of(closed_lots(book, 1))
         self.assertEqual(told, as_told)
         self.assertEqual([ask(*handed) for ask, handed in reversed(questions())], as_told[::-1])
         self.assertEqual(told, as_told)
@@ -192,6 +263,21 @@ class GreatNumbers(unittest.TestCase):
                 self.assertIs(closed_holds(book, great, paper), False)
                 self.assertIs(closed_holds((1, []), 1, paper), False)
             self.assertIs(closed_holds(book, great, []), True)
+
+    def test_of_rules(self):
+        great = plain.FORTY
+        rules = [(great, great - 1), (0, great), (1, 2)]
+        with plain.within_seconds(10):
+            self.assertEqual(brought_on(rules, 0), (great, [1]))
+            self.assertEqual(follows(rules, (great, 0)), ("by", []))
+            self.assertIs(follow_holds(rules, (1, 2), ("by", [2, great])), False)
+            self.assertIs(follow_holds(rules, (1, 2), ("by", [-great])), False)
+            self.assertIs(follow_holds(rules, (1, 2), ("shut", great)), False)
+            self.assertIs(follow_holds(rules, (1, 2), ("shut", -great)), False)
+            self.assertIs(follow_holds([], (1, 2 ** 200), ("shut", great)), True)
+            self.assertEqual(short_rules(BOOKS[0], great, (great, great)), [])
+            self.assertEqual(short_rules(BOOKS[0], 1, (great, 1)), [])
+            self.assertEqual(meet(great, great), great)
 
 
 if __name__ == "__main__":
