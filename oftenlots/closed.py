@@ -1,7 +1,7 @@
 """The closed lots of a book that are often, the going that meets each once, and their paper."""
 
 from oftenlots.books import common, count, holders
-from oftenlots.lots import all_lots, things_below, things_lacking, with_thing
+from oftenlots.lots import all_lots, lots_rise, things_below, things_lacking, with_thing
 
 
 # The closing of a lot that is often, None of a rare one.
@@ -60,22 +60,13 @@ def reason_for(book, least, lot, thing):
 # Rows that are right, the first closing, and all that the rows lead to: no more is asked, as every
 # closed lot that is often is come to from the first closing by things of its own, one by one.
 def closed_holds(book, least, paper):
-    if not lots_rise(book, paper):
+    # Ahead of all else: behind it every lot is one of the book's things, however great a number came.
+    if not lots_rise(book[0], paper):
         return False
     for row in paper:
         if not row_is_right(book, least, row):
             return False
     return none_is_missing(book, least, paper)
-
-
-# Looked at ahead of all else: behind it every lot is one of the book's things, however great a number came.
-def lots_rise(book, paper):
-    last = -1
-    for row in paper:
-        if row[0] <= last:
-            return False
-        last = row[0]
-    return last <= things_below(book[0])
 
 
 def row_is_right(book, least, row):

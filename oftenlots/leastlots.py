@@ -1,7 +1,7 @@
 """Least lots, the counts that come back from lists of lots, and the kins of closed lots."""
 
 from oftenlots.books import closing, count
-from oftenlots.lots import all_lots, has, lots_within, one_thing_fewer
+from oftenlots.lots import all_lots, has, has_any, lots_within, one_thing_fewer
 
 
 def is_least(book, lot):
@@ -29,9 +29,8 @@ def by_closed(closed, lot):
 
 
 def by_least(leasts, rares, lot):
-    for rare in rares:
-        if has(lot, rare):
-            return None
+    if has_any(lot, rares):
+        return None
     return min([row[1] for row in leasts if has(lot, row[0])], default=None)
 
 

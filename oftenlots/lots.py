@@ -10,12 +10,31 @@ def has(one, other):
     return (one & other) == other
 
 
+def has_any(lot, others):
+    for other in others:
+        if has(lot, other):
+            return True
+    return False
+
+
 def has_thing(lot, thing):
     return has(lot, 1 << thing)
 
 
 def with_thing(lot, thing):
     return lot | (1 << thing)
+
+
+# Of a basket's things, or of places of baskets: then it is a column.
+def lot_of(things):
+    lot = 0
+    for thing in things:
+        lot = with_thing(lot, thing)
+    return lot
+
+
+def without(lot, other):
+    return lot - (lot & other)
 
 
 def all_lots(many):
@@ -38,3 +57,13 @@ def lots_within(lot):
 # Each without another one of the lot's things.
 def one_thing_fewer(lot):
     return [lot - (1 << thing) for thing in things_in(lot)]
+
+
+# Of the rows of a paper, whose lots stand first: each greater than the one ahead, all of them of so many things.
+def lots_rise(many, rows):
+    last = -1
+    for row in rows:
+        if row[0] <= last:
+            return False
+        last = row[0]
+    return last <= things_below(many)

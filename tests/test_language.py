@@ -28,6 +28,7 @@ STATEMENTS = (ast.Assign, ast.AugAssign, ast.If, ast.While, ast.For, ast.Return,
 EXPRESSIONS = (ast.Constant, ast.List, ast.Tuple, ast.Dict, ast.Set, ast.BinOp, ast.UnaryOp, ast.BoolOp, ast.Compare,
                ast.IfExp, ast.Call, ast.Attribute, ast.Subscript, ast.Slice, ast.ListComp, ast.JoinedStr,
                ast.FormattedValue, ast.Name, ast.Lambda)
+CHANGES = ("append", "clear", "extend", "insert", "pop", "remove", "reverse", "setdefault", "update")
 WALKED = ("zip", "enumerate", "reversed", "range")
 KEYWORDS = {"sorted": {"key", "reverse"}, "min": {"key", "default"}, "max": {"key", "default"}, "sum": {"start"},
             "enumerate": {"start"}, "zip": {"strict"}}
@@ -245,6 +246,52 @@ class Values(unittest.TestCase):
     def test_sets_are_not_written_out(self):
         for where, node in nodes(ast.Set):
             self.fail(where)
+
+    def test_sets_stand_straight_within_sorted_or_len(self):
+        for name, tree in trees():
+            free = []
+            for node in ast.walk(tree):
+                if isinstance(node, ast.Call) and isinstance(node.func, ast.Name) and node.func.id in ("sorted", "len"):
+                    free.extend([] if node.keywords else node.args)
+            for node in ast.walk(tree):
+                if isinstance(node, ast.Call) and isinstance(node.func, ast.Name):
+                    if node.func.id in ("set", "frozenset"):
+                        self.assertTrue(any(node is one for one in free), f"{name}:{node.lineno}")
+
+    def test_what_is_walked_is_not_changed(self):
+        for where, loop in nodes(ast.For):
+            walked = [part.id for part in ast.walk(loop.iter) if isinstance(part, ast.Name)]
+            if isinstance(loop.iter, ast.Call) and ast.unparse(loop.iter.func) in ("list", "sorted"):
+                walked = []
+            for node in [part for row in loop.body for part in ast.walk(row)]:
+                if isinstance(node, ast.Call) and isinstance(node.func, ast.Attribute) and node.func.attr in CHANGES:
+                    self.assertNotIn(ast.unparse(node.func.value), walked, where)
+                if isinstance(node, ast.Subscript) and isinstance(node.ctx, ast.Store):
+                    self.assertNotIn(ast.unparse(node.value), walked, where)
+
+
+class Objects(unittest.TestCase):
+    def test_methods_and_values_have_names_of_their_own(self):
+        methods = [part.name for where, node in nodes(ast.ClassDef) for part in node.body
+                   if isinstance(part, ast.FunctionDef) and part.name != "__init__"]
+        values = {node.attr for where, node in nodes(ast.Attribute) if isinstance(node.ctx, ast.Store)}
+        pythons = {name for kind in (str, int, list, tuple, dict, set, bytes) for name in dir(kind)}
+        self.assertEqual(set(methods) & values, set())
+        self.assertEqual(values & pythons, set())
+        self.assertEqual(set(methods) & pythons - METHODS - {"add", "discard"}, set())
+
+    def test_no_method_stands_twice_and_init_tells_nothing(self):
+        for where, node in nodes(ast.ClassDef):
+            methods = [part for part in node.body if isinstance(part, ast.FunctionDef)]
+            self.assertEqual(len({part.name for part in methods}), len(methods), where)
+            for part in methods:
+                told = [row for row in ast.walk(part) if isinstance(row, ast.Return)]
+                self.assertFalse(part.name == "__init__" and told, where)
+
+    def test_errors_are_made_where_they_are_raised(self):
+        for where, node in nodes(ast.Raise):
+            self.assertIsInstance(node.exc, ast.Call, where)
+            self.assertIsInstance(node.exc.func, ast.Name, where)
 
 
 if __name__ == "__main__":

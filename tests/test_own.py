@@ -4,13 +4,18 @@ import copy
 import unittest
 
 import plain
+import plainlevels
 import plainrules
 from oftenlots.books import closing, common, count, holders, is_closed
 from oftenlots.closed import closed_holds, closed_lots, closed_paper, going
+from oftenlots.columns import by_columns, column_of, columns, gone
 from oftenlots.fewrules import few_rules, served, short_rules, way
 from oftenlots.leastlots import all_least, by_closed, by_least, kin, least_lots
+from oftenlots.levels import border, levels, often, whole_holds, whole_paper
 from oftenlots.neighbours import above, baskets_of, below, join, just, longest, meet
+from oftenlots.paths import cut_tree, ends, grown, order, tree_of
 from oftenlots.rules import brought_on, follow_holds, follows, holds, rule_count, share
+from oftenlots.texts import read_day, read_lot, read_rule, show_day, show_lot, show_rule
 
 BAD = object()
 NONE = type(None)
@@ -25,6 +30,10 @@ KINDS = {
     rule_count: [int], share: [tuple, NONE], holds: [bool], brought_on: [tuple], follows: [tuple],
     follow_holds: [bool],
     few_rules: [list, tuple], served: [list, int, NONE], way: [list, int], short_rules: [list, tuple],
+    show_lot: [str], show_rule: [str], show_day: [str], read_lot: [int], read_rule: [tuple], read_day: [list, int],
+    often: [list, tuple], border: [list, tuple], levels: [list], whole_paper: [tuple], whole_holds: [bool],
+    order: [list, int], tree_of: [list, tuple], ends: [list, tuple], cut_tree: [list, tuple], grown: [list, tuple],
+    columns: [list, int], column_of: [int], gone: [list, tuple], by_columns: [list, tuple],
 }
 
 
@@ -55,7 +64,8 @@ def questions_of(book):
         asked += [(closed_holds, book, least, paper), (closed_holds, book, least, paper[:-1])]
         asked += [(by_closed, closed, 2), (by_closed, closed, whole)]
         asked += [(by_least, leasts, rares, 2), (by_least, leasts, rares, whole)]
-    return asked + neighbour_questions(book) + rule_questions(book)
+    asked += neighbour_questions(book) + rule_questions(book)
+    return asked + text_questions(book) + level_questions(book) + path_questions(book)
 
 
 def neighbour_questions(book):
@@ -80,6 +90,34 @@ def rule_questions(book):
         asked += [(follow_holds, rules, rule, ("by", [0, 0, 1])), (follow_holds, rules, rule, ("shut", whole))]
         asked += [(brought_on, rules, rule[0]), (follows, [], rule), (brought_on, [], rule[0])]
     asked += [(short_rules, book, least, told) for least in (1, 2) for told in ((0, 1), (2, 3), (2, 1))]
+    return asked
+
+
+def text_questions(book):
+    names = ["tea", "milk", "bun", "jam"]
+    asked = [(show_day, names, book[1]), (show_day, names, []), (read_day, names, "none"), (read_day, names, "-; bun")]
+    for lot, text in ((0, "-"), (1, "tea"), (7, "tea milk bun")):
+        asked += [(show_lot, names, lot), (show_rule, names, (lot, 2))]
+        asked += [(read_lot, names, text), (read_rule, names, text + " => milk jam")]
+    return asked
+
+
+def level_questions(book):
+    asked = []
+    for least in (1, 2, 3, plain.FORTY):
+        asked += [(ask, book, least) for ask in (often, border, levels, whole_paper)]
+        paper = whole_paper(book, least)
+        asked += [(whole_holds, book, least, paper), (whole_holds, book, least, (paper[0][:-1], paper[1][:-1]))]
+        asked += [(ask, book, least) for ask in (gone, by_columns)]
+    return asked + [(columns, book), (column_of, book, 0), (column_of, book, 3)]
+
+
+def path_questions(book):
+    asked = []
+    for least in (1, 2, 3, plain.FORTY):
+        tree = plainlevels.tree_of(book, least)
+        asked += [(ask, book, least) for ask in (order, tree_of, grown)]
+        asked += [(ends, tree)] + [(cut_tree, tree, thing, least) for thing in (0, 1, 2, 9)]
     return asked
 
 
@@ -121,6 +159,12 @@ class Kinds(unittest.TestCase):
         self.assertIs(type(follows([(1, 2)], (1, 2))[1]), list)
         self.assertIs(type(follows([(1, 2)], (1, 4))[1]), int)
         self.assertTrue(all(type(row[3]) is tuple for row in short_rules(BOOKS[0], 1, (0, 1))))
+        for level in levels(BOOKS[0], 1):
+            self.assertIs(type(level), list)
+            self.assertTrue(all(type(row) is tuple for row in level))
+        for rows in whole_paper(BOOKS[0], 2):
+            self.assertIs(type(rows), list)
+            self.assertEqual({(type(row), type(row[1])) for row in rows}, {(tuple, list)})
 
 
 class HandedIn(unittest.TestCase):
@@ -161,6 +205,24 @@ class HandedIn(unittest.TestCase):
             self.assertEqual(short_rules(book, 1, (0, 1)), plainrules.short_rules(fresh, 1, (0, 1)))
             self.assertEqual(share(book, (1, 2)), plainrules.share(fresh, (1, 2)))
             self.assertEqual(join(book, 1, 2), plain.closing(fresh, 3))
+            for ask in (often, grown, by_columns):
+                self.assertEqual(ask(book, 1), plainlevels.often(fresh, 1))
+            self.assertEqual(border(book, 2), plainlevels.border(fresh, 2))
+            self.assertEqual(levels(book, 2), plainlevels.levels(fresh, 2))
+            self.assertTrue(plainlevels.whole_holds(fresh, 1, whole_paper(book, 1)))
+            self.assertEqual(order(book, 1), plainlevels.order(fresh, 1))
+            self.assertEqual(tree_of(book, 1), plainlevels.tree_of(fresh, 1))
+            self.assertEqual(columns(book), [plainlevels.column_of(fresh, lot) for lot in (1, 2, 4)])
+            self.assertEqual(column_of(book, 0), plainlevels.column_of(fresh, 0))
+            self.assertEqual(gone(book, 1), plainlevels.gone(fresh, 1))
+
+    def test_a_changed_tree_is_answered_as_it_stands_then(self):
+        tree = [(-1, -1, 2), (0, 0, 2), (1, 1, 1)]
+        self.assertEqual(ends(tree), [(1, 1), (3, 1)])
+        self.assertEqual(cut_tree(tree, 1, 1), [(-1, -1, 1), (0, 0, 1)])
+        tree.pop()
+        self.assertEqual(ends(tree), [(1, 2)])
+        self.assertEqual(cut_tree(tree, 1, 1), [(-1, -1, 0)])
 
     def test_changed_rules_and_closed_lots_are_answered_as_they_stand_then(self):
         rules = [(1, 2)]
@@ -190,6 +252,10 @@ class HandedIn(unittest.TestCase):
         self.assertIs(closed_holds(book, 1, paper), True)
         paper[0][2].pop()
         self.assertIs(closed_holds(book, 1, paper), False)
+        paper = whole_paper(book, 1)
+        self.assertIs(whole_holds(book, 1, paper), True)
+        paper[1].pop()
+        self.assertIs(whole_holds(book, 1, paper), False)
 
 
 class AskersOwn(unittest.TestCase):
@@ -241,6 +307,11 @@ class AskersOwn(unittest.TestCase):
             served(book, rules)
             follows(rules, (0, 2 ** book[0] - 1))
             baskets_of(closed_lots(book, 1))
+            whole_paper(book, 1)
+            levels(book, 2)
+            ends(cut_tree(tree_of(book, 1), 0, 1))
+            grown(book, 1)
+            gone(book, 1)
         self.assertEqual(told, as_told)
         self.assertEqual([ask(*handed) for ask, handed in reversed(questions())], as_told[::-1])
         self.assertEqual(told, as_told)
@@ -278,6 +349,19 @@ class GreatNumbers(unittest.TestCase):
             self.assertEqual(short_rules(BOOKS[0], great, (great, great)), [])
             self.assertEqual(short_rules(BOOKS[0], 1, (great, 1)), [])
             self.assertEqual(meet(great, great), great)
+
+    def test_of_levels_paths_and_columns(self):
+        great = plain.FORTY
+        book = (12, [4095] * 60)
+        with plain.within_seconds(10):
+            for ask in (often, levels, order, grown, gone, by_columns):
+                self.assertEqual(ask(book, great), [])
+            self.assertEqual(border(book, great), [(0, 60)])
+            self.assertEqual(tree_of(book, great), [(-1, -1, 60)])
+            self.assertEqual(cut_tree(tree_of(book, 1), great, great), [(-1, -1, 0)])
+            self.assertEqual(cut_tree(tree_of(book, 1), 11, great), [(-1, -1, 60)])
+            self.assertIs(whole_holds(book, great, whole_paper(book, great)), True)
+            self.assertIs(whole_holds(book, 1, ([(0, [great] * 60)], [(great, [-great] * 60)])), False)
 
 
 if __name__ == "__main__":
