@@ -17,6 +17,13 @@ def has_any(lot, others):
     return False
 
 
+def lies_in_any(lot, others):
+    for other in others:
+        if has(other, lot):
+            return True
+    return False
+
+
 def has_thing(lot, thing):
     return has(lot, 1 << thing)
 
@@ -49,14 +56,35 @@ def things_in(lot):
     return [thing for thing in range(lot.bit_length()) if has_thing(lot, thing)]
 
 
-# Rising, the empty lot and the lot itself among them.
+# Rising, the empty lot and the lot itself among them: with each next thing come only greater lots than all ahead.
 def lots_within(lot):
-    return [part for part in range(lot + 1) if has(lot, part)]
+    told = [0]
+    for thing in things_in(lot):
+        told = told + [with_thing(part, thing) for part in told]
+    return told
+
+
+def lesser_lots(lot):
+    return lots_within(lot)[:-1]
+
+
+# Of rising lots those with no other one within them: what lies in a lot is a lesser number, so it stands ahead.
+def least_among(lots):
+    told = []
+    for lot in lots:
+        if not has_any(lot, told):
+            told.append(lot)
+    return told
 
 
 # Each without another one of the lot's things.
 def one_thing_fewer(lot):
     return [lot - (1 << thing) for thing in things_in(lot)]
+
+
+# Below 0 Python would count from a list's end.
+def is_place(rows, place):
+    return place >= 0 and place < len(rows)
 
 
 # Of the rows of a paper, whose lots stand first: each greater than the one ahead, all of them of so many things.

@@ -4,7 +4,7 @@ A list of closed lots holds tuples (lot, count), rising by lot: so what lies wit
 """
 
 from oftenlots.books import closing
-from oftenlots.lots import has, has_any
+from oftenlots.lots import has, has_any, lies_in_any
 
 
 def above(closed, lot):
@@ -25,13 +25,6 @@ def below(closed, lot):
 
 def lots_of(closed):
     return [row[0] for row in closed]
-
-
-def lies_in_any(lot, others):
-    for other in others:
-        if has(other, lot):
-            return True
-    return False
 
 
 def meet(one, other):

@@ -4,7 +4,7 @@ A rule is a tuple (first, then): whoever has the things of first has those of th
 """
 
 from oftenlots.books import count
-from oftenlots.lots import has
+from oftenlots.lots import has, is_place
 
 
 def rule_count(book, rule):
@@ -83,8 +83,7 @@ def follow_holds(rules, rule, told):
 def steps_show(rules, rule, steps):
     come = rule[0]
     for place in steps:
-        # Below 0 Python would count from the list's end.
-        if place < 0 or place >= len(rules) or not has(come, rules[place][0]):
+        if not is_place(rules, place) or not has(come, rules[place][0]):
             return False
         come = come | rules[place][1]
     return has(come, rule[1])

@@ -4,121 +4,27 @@ import copy
 import unittest
 
 import plain
+import plainapart
 import plainlevels
 import plainrules
+from asked import BOOKS, KINDS, questions
+from oftenlots.apart import least_parting, parting_holds, parting_paper, parts
 from oftenlots.books import closing, common, count, holders, is_closed
 from oftenlots.closed import closed_holds, closed_lots, closed_paper, going
 from oftenlots.columns import by_columns, column_of, columns, gone
+from oftenlots.dealings import by_surprise, mean, surprise, together
+from oftenlots.errors import NoRoom
 from oftenlots.fewrules import few_rules, served, short_rules, way
+from oftenlots.greatest import crossings, greatest, part_all
 from oftenlots.leastlots import all_least, by_closed, by_least, kin, least_lots
 from oftenlots.levels import border, levels, often, whole_holds, whole_paper
 from oftenlots.neighbours import above, baskets_of, below, join, just, longest, meet
 from oftenlots.paths import cut_tree, ends, grown, order, tree_of
+from oftenlots.rooms import count_again, ends_of_room, filled, lesser_counts, open_lots, room, settled
 from oftenlots.rules import brought_on, follow_holds, follows, holds, rule_count, share
 from oftenlots.texts import read_day, read_lot, read_rule, show_day, show_lot, show_rule
 
 BAD = object()
-NONE = type(None)
-
-# The kinds of what each tells, and of what stands in it where it is a list.
-KINDS = {
-    count: [int], holders: [list, int], common: [int], closing: [int], is_closed: [bool],
-    closed_lots: [list, tuple], going: [list, tuple], closed_paper: [list, tuple], closed_holds: [bool],
-    least_lots: [list, int], all_least: [list, tuple], by_closed: [int, NONE], by_least: [int, NONE], kin: [int],
-    above: [list, int], below: [list, int], meet: [int], join: [int], longest: [list, int], just: [list, tuple],
-    baskets_of: [list, int],
-    rule_count: [int], share: [tuple, NONE], holds: [bool], brought_on: [tuple], follows: [tuple],
-    follow_holds: [bool],
-    few_rules: [list, tuple], served: [list, int, NONE], way: [list, int], short_rules: [list, tuple],
-    show_lot: [str], show_rule: [str], show_day: [str], read_lot: [int], read_rule: [tuple], read_day: [list, int],
-    often: [list, tuple], border: [list, tuple], levels: [list], whole_paper: [tuple], whole_holds: [bool],
-    order: [list, int], tree_of: [list, tuple], ends: [list, tuple], cut_tree: [list, tuple], grown: [list, tuple],
-    columns: [list, int], column_of: [int], gone: [list, tuple], by_columns: [list, tuple],
-}
-
-
-# In the second one several lots have no holders, so that several lists are empty; the third has no baskets.
-BOOKS = [(4, [3, 7, 0, 1, 3, 15, 12]), (3, [1, 2, 4, 0, 1, 2]), (3, [])]
-
-
-def questions():
-    """Each a function and what is handed in: made anew at each call, so that a test may change it."""
-    asked = []
-    for book in BOOKS:
-        asked += questions_of(book)
-    asked += [(common, BOOKS[0], [1, 0, 1]), (common, BOOKS[0], [3])]
-    return [(row[0], copy.deepcopy(row[1:])) for row in asked]
-
-
-def questions_of(book):
-    whole = 2 ** book[0] - 1
-    asked = [(common, book, []), (closed_lots, book, plain.FORTY), (least_lots, book, whole), (kin, book, whole)]
-    for lot in (0, 1, 2, 3, whole):
-        asked += [(ask, book, lot) for ask in (count, holders, closing, is_closed)]
-    for least in (1, 2, 3):
-        closed = plain.closed_lots(book, least)
-        leasts = plain.all_least(book, least)
-        rares = plain.least_rare(book, least)
-        paper = plain.closed_paper(book, least)
-        asked += [(ask, book, least) for ask in (closed_lots, going, closed_paper, all_least)]
-        asked += [(closed_holds, book, least, paper), (closed_holds, book, least, paper[:-1])]
-        asked += [(by_closed, closed, 2), (by_closed, closed, whole)]
-        asked += [(by_least, leasts, rares, 2), (by_least, leasts, rares, whole)]
-    asked += neighbour_questions(book) + rule_questions(book)
-    return asked + text_questions(book) + level_questions(book) + path_questions(book)
-
-
-def neighbour_questions(book):
-    asked = [(meet, 5, 6), (join, book, 0, 0), (join, book, 1, 2)]
-    asked += [(ask, plain.closed_lots(book, 1)) for ask in (just, baskets_of)]
-    for least in (1, 2, 3):
-        closed = plain.closed_lots(book, least)
-        asked += [(longest, closed)]
-        for lot, own in closed:
-            asked += [(ask, closed, lot) for ask in (above, below)]
-            asked += [(way, closed, closed[0][0], lot), (way, closed, lot, lot)]
-    return asked
-
-
-def rule_questions(book):
-    whole = 2 ** book[0] - 1
-    rules = plainrules.few_rules(book)
-    asked = [(few_rules, book), (served, book, rules), (served, book, rules[1:] + rules), (served, book, [])]
-    for rule in ((0, 0), (1, 2), (2, 1), (4, 3), (whole, 0), (0, whole)):
-        asked += [(ask, book, rule) for ask in (rule_count, share, holds)]
-        asked += [(follows, rules, rule), (follow_holds, rules, rule, plainrules.follows(rules, rule))]
-        asked += [(follow_holds, rules, rule, ("by", [0, 0, 1])), (follow_holds, rules, rule, ("shut", whole))]
-        asked += [(brought_on, rules, rule[0]), (follows, [], rule), (brought_on, [], rule[0])]
-    asked += [(short_rules, book, least, told) for least in (1, 2) for told in ((0, 1), (2, 3), (2, 1))]
-    return asked
-
-
-def text_questions(book):
-    names = ["tea", "milk", "bun", "jam"]
-    asked = [(show_day, names, book[1]), (show_day, names, []), (read_day, names, "none"), (read_day, names, "-; bun")]
-    for lot, text in ((0, "-"), (1, "tea"), (7, "tea milk bun")):
-        asked += [(show_lot, names, lot), (show_rule, names, (lot, 2))]
-        asked += [(read_lot, names, text), (read_rule, names, text + " => milk jam")]
-    return asked
-
-
-def level_questions(book):
-    asked = []
-    for least in (1, 2, 3, plain.FORTY):
-        asked += [(ask, book, least) for ask in (often, border, levels, whole_paper)]
-        paper = whole_paper(book, least)
-        asked += [(whole_holds, book, least, paper), (whole_holds, book, least, (paper[0][:-1], paper[1][:-1]))]
-        asked += [(ask, book, least) for ask in (gone, by_columns)]
-    return asked + [(columns, book), (column_of, book, 0), (column_of, book, 3)]
-
-
-def path_questions(book):
-    asked = []
-    for least in (1, 2, 3, plain.FORTY):
-        tree = plainlevels.tree_of(book, least)
-        asked += [(ask, book, least) for ask in (order, tree_of, grown)]
-        asked += [(ends, tree)] + [(cut_tree, tree, thing, least) for thing in (0, 1, 2, 9)]
-    return asked
 
 
 def spoil(value):
@@ -165,6 +71,13 @@ class Kinds(unittest.TestCase):
         for rows in whole_paper(BOOKS[0], 2):
             self.assertIs(type(rows), list)
             self.assertEqual({(type(row), type(row[1])) for row in rows}, {(tuple, list)})
+        rows, leads = parting_paper((2, [3, 0]), (2, [0]))
+        self.assertEqual([type(part) for part in (rows, leads)], [list, list])
+        self.assertEqual([type(part) for part in rows[0]], [int, int, list, list])
+        self.assertEqual([[type(part) for part in lead] for lead in leads], [[str, int], [str, int]])
+        for told in (together(5, [2, 3]), [mean(5, [2, 3])], [surprise(BOOKS[0], 3)], [room(1, [(0, 2)])],
+                     [ends_of_room(1, [(0, 2)])]):
+            self.assertTrue(all([type(part) for part in pair] == [int, int] for pair in told))
 
 
 class HandedIn(unittest.TestCase):
@@ -215,6 +128,46 @@ class HandedIn(unittest.TestCase):
             self.assertEqual(columns(book), [plainlevels.column_of(fresh, lot) for lot in (1, 2, 4)])
             self.assertEqual(column_of(book, 0), plainlevels.column_of(fresh, 0))
             self.assertEqual(gone(book, 1), plainlevels.gone(fresh, 1))
+            self.assertEqual(greatest(book, 1), plainapart.greatest(fresh, 1))
+            self.assertEqual(lesser_counts(book, 7), plainapart.lesser_counts(fresh[1], 7))
+            self.assertEqual(settled(book, 3), plainapart.settled(fresh, 3))
+            self.assertEqual(open_lots(book, 1), plainapart.open_lots(fresh, 1))
+            other = (3, [1, 6])
+            self.assertEqual(parts(book, other, 3), plainapart.parts(fresh, other, 3))
+            self.assertEqual(least_parting(book, other), plainapart.least_parting(fresh, other))
+            self.assertEqual(least_parting(other, book), plainapart.least_parting(other, fresh))
+            self.assertTrue(plainapart.parting_holds(fresh, other, parting_paper(book, other)))
+            if baskets:
+                self.assertEqual(surprise(book, 3), plainapart.pair(plainapart.surprise(fresh, 3)))
+
+    def test_changed_lists_of_lots_and_counts_are_answered_as_they_stand_then(self):
+        lots = [3, 5]
+        self.assertEqual(crossings(3, lots), [1, 6])
+        lots.append(6)
+        self.assertEqual(crossings(3, lots), [3, 5, 6])
+        great = [3]
+        self.assertIs(part_all(3, great, [4]), True)
+        great[0] = 1
+        self.assertIs(part_all(3, great, [4]), False)
+        counts = [(0, 10), (1, 7), (2, 6)]
+        self.assertEqual((room(3, counts), ends_of_room(3, counts)), ((3, 6), (0, 2)))
+        self.assertEqual(filled(3, counts, 6), [0] * 3 + [1] + [3] * 6)
+        counts[1] = (1, 4)
+        self.assertEqual((room(3, counts), ends_of_room(3, counts)), ((0, 4), (0, 1)))
+        self.assertEqual(filled(3, counts, 4), [0] * 4 + [2] * 2 + [3] * 4)
+        opened = [(0, 3), (1, 3), (2, 2)]
+        self.assertEqual(count_again(opened, 1, 3), 2)
+        opened.pop()
+        self.assertIsNone(count_again(opened, 1, 3))
+        counts = [2, 2]
+        self.assertEqual((together(4, counts), mean(4, counts)), ([(1, 6), (2, 3), (1, 6)], (1, 1)))
+        counts[0] = 1
+        self.assertEqual((together(4, counts), mean(4, counts)), ([(1, 2), (1, 2)], (1, 2)))
+        lots = [5, 6]
+        told = by_surprise((3, [3, 7, 0, 1, 3]), lots)
+        lots.append(3)
+        self.assertEqual(told, [6, 5])
+        self.assertEqual(by_surprise((3, [3, 7, 0, 1, 3]), lots), [3, 6, 5])
 
     def test_a_changed_tree_is_answered_as_it_stands_then(self):
         tree = [(-1, -1, 2), (0, 0, 2), (1, 1, 1)]
@@ -256,6 +209,10 @@ class HandedIn(unittest.TestCase):
         self.assertIs(whole_holds(book, 1, paper), True)
         paper[1].pop()
         self.assertIs(whole_holds(book, 1, paper), False)
+        paper = parting_paper(book, (2, [0]))
+        self.assertIs(parting_holds(book, (2, [0]), paper), True)
+        paper[0][0][3].append(0)
+        self.assertIs(parting_holds(book, (2, [0]), paper), False)
 
 
 class AskersOwn(unittest.TestCase):
@@ -312,6 +269,11 @@ class AskersOwn(unittest.TestCase):
             ends(cut_tree(tree_of(book, 1), 0, 1))
             grown(book, 1)
             gone(book, 1)
+            open_lots(book, 1)
+            parting_paper(book, (book[0], [1]))
+            crossings(book[0], book[1])
+            room(1, [(0, len(book[1]))])
+            together(len(book[1]), [len(book[1])] * 2)
         self.assertEqual(told, as_told)
         self.assertEqual([ask(*handed) for ask, handed in reversed(questions())], as_told[::-1])
         self.assertEqual(told, as_told)
@@ -362,6 +324,19 @@ class GreatNumbers(unittest.TestCase):
             self.assertEqual(cut_tree(tree_of(book, 1), 11, great), [(-1, -1, 60)])
             self.assertIs(whole_holds(book, great, whole_paper(book, great)), True)
             self.assertIs(whole_holds(book, 1, ([(0, [great] * 60)], [(great, [-great] * 60)])), False)
+
+    def test_of_greatest_lots_and_rooms(self):
+        great = plain.FORTY
+        lot = 2 ** 132
+        with plain.within_seconds(10):
+            self.assertEqual(greatest((8, [255] * 60), great), [])
+            self.assertEqual(open_lots((8, [255] * 60), great), [])
+            self.assertIsNone(count_again(open_lots((7, [127] * 60), 1), great, 127))
+            self.assertEqual(room(lot, [(0, 10 ** 10 - 1)]), (0, 10 ** 10 - 1))
+            self.assertEqual(ends_of_room(lot + 1, [(0, 4), (1, 2), (lot, 3)]), (0, 1))
+            self.assertEqual(filled(lot + 1, [(0, 4), (1, 2), (lot, 3)], 1), [1, lot, lot, lot + 1])
+            with self.assertRaises(NoRoom):
+                filled(lot, [(0, 10 ** 10 - 1)], great)
 
 
 if __name__ == "__main__":
