@@ -82,6 +82,11 @@ def one_thing_fewer(lot):
     return [lot - (1 << thing) for thing in things_in(lot)]
 
 
+# Of rows whose lots stand first.
+def lots_of(rows):
+    return [row[0] for row in rows]
+
+
 # Below 0 Python would count from a list's end.
 def is_place(rows, place):
     return place >= 0 and place < len(rows)

@@ -4,7 +4,7 @@ A list of closed lots holds tuples (lot, count), rising by lot: so what lies wit
 """
 
 from oftenlots.books import closing
-from oftenlots.lots import has, has_any, lies_in_any
+from oftenlots.lots import has, has_any, lies_in_any, lots_of
 
 
 def above(closed, lot):
@@ -21,10 +21,6 @@ def below(closed, lot):
         if other != lot and has(lot, other) and not lies_in_any(other, told):
             told.append(other)
     return list(reversed(told))
-
-
-def lots_of(closed):
-    return [row[0] for row in closed]
 
 
 def meet(one, other):

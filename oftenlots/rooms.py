@@ -84,8 +84,9 @@ def settled(book, lot):
     return only_number(room(lot, lesser_counts(book, lot))) is not None
 
 
+# Of the room by counts that some book has, so there is one.
 def only_number(space):
-    if space is None or space[0] != space[1]:
+    if space[0] != space[1]:
         return None
     return space[0]
 

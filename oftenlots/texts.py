@@ -1,7 +1,14 @@
-"""Lots, rules and days as texts, by a list of the things' names, and read back from them."""
+"""Lots, rules, days and numbers as texts, by a list of the things' names, and read back from them."""
 
 from oftenlots.errors import NoText
 from oftenlots.lots import lot_of, things_in
+
+MOST_LETTERS = 8
+MOST_FIGURES = 40
+
+
+def is_name(text):
+    return text.isalpha() and text.islower() and len(text) <= MOST_LETTERS and text != "none"
 
 
 def show_lot(names, lot):
@@ -15,9 +22,13 @@ def show_rule(names, rule):
 
 
 def show_day(names, day):
-    if len(day) == 0:
+    return joined("; ", [show_lot(names, basket) for basket in day])
+
+
+def joined(sign, texts):
+    if len(texts) == 0:
         return "none"
-    return "; ".join([show_lot(names, basket) for basket in day])
+    return sign.join(texts)
 
 
 def read_lot(names, text):
@@ -30,13 +41,33 @@ def read_lot(names, text):
 
 
 def read_rule(names, text):
-    sides = text.split(" => ")
-    if len(sides) != 2:
-        raise NoText("a rule has two lots with => between")
+    sides = split_in(text, " => ", 2)
     return (read_lot(names, sides[0]), read_lot(names, sides[1]))
 
 
 def read_day(names, text):
+    return [read_lot(names, part) for part in taken_apart("; ", text)]
+
+
+def taken_apart(sign, text):
     if text == "none":
         return []
-    return [read_lot(names, part) for part in text.split("; ")]
+    return text.split(sign)
+
+
+def split_in(text, sign, many):
+    pieces = text.split(sign)
+    if len(pieces) != many:
+        raise NoText("there are too few or too many pieces")
+    return pieces
+
+
+def read_number(text):
+    figures = text[1:] if text.startswith("-") else text
+    if not figures.isdigit() or len(figures) > MOST_FIGURES:
+        raise NoText("this text is no number's")
+    number = int(text)
+    # One text alone is a number's own: so none with a 0 first, and no 0 with a sign.
+    if str(number) != text:
+        raise NoText("this number is written otherwise")
+    return number

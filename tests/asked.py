@@ -16,9 +16,13 @@ from oftenlots.greatest import crossings, greatest, outside, part_all
 from oftenlots.leastlots import all_least, by_closed, by_least, kin, least_lots
 from oftenlots.levels import border, levels, often, whole_holds, whole_paper
 from oftenlots.neighbours import above, baskets_of, below, join, just, longest, meet
+from oftenlots.papertexts import read_closed, read_parting, read_whole, show_closed, show_parting, show_whole
 from oftenlots.paths import cut_tree, ends, grown, order, tree_of
 from oftenlots.rooms import count_again, ends_of_room, filled, lesser_counts, open_lots, room, settled
+from oftenlots.rows import (closed_rows, first_fit, last_fit, lies_in, often_rows, row_buyers, row_count, row_holds,
+                            row_paper, short_fit)
 from oftenlots.rules import brought_on, follow_holds, follows, holds, rule_count, share
+from oftenlots.sample import from_part, gone_on
 from oftenlots.texts import read_day, read_lot, read_rule, show_day, show_lot, show_rule
 
 NONE = type(None)
@@ -42,6 +46,11 @@ KINDS = {
     settled: [bool], open_lots: [list, tuple], count_again: [int, NONE],
     together: [list, tuple], mean: [tuple], surprise: [tuple], by_surprise: [list, int],
     parts: [bool], least_parting: [list, tuple], parting_paper: [tuple], parting_holds: [bool],
+    first_fit: [list, int, NONE], last_fit: [list, int, NONE], short_fit: [list, int, NONE], row_count: [int],
+    row_buyers: [list, int], lies_in: [bool], often_rows: [list, tuple], closed_rows: [list, tuple],
+    row_paper: [list, tuple], row_holds: [bool],
+    show_whole: [str], show_closed: [str], show_parting: [str], read_whole: [tuple], read_closed: [list, tuple],
+    read_parting: [tuple], from_part: [tuple], gone_on: [tuple],
 }
 
 
@@ -74,7 +83,8 @@ def questions_of(book):
         asked += [(by_least, leasts, rares, 2), (by_least, leasts, rares, whole)]
     asked += neighbour_questions(book) + rule_questions(book)
     asked += text_questions(book) + level_questions(book) + path_questions(book)
-    return asked + greatest_questions(book) + room_questions(book) + dealing_questions(book) + apart_questions(book)
+    asked += greatest_questions(book) + room_questions(book) + dealing_questions(book) + apart_questions(book)
+    return asked + row_questions(book) + paper_text_questions(book) + sample_questions(book)
 
 
 def neighbour_questions(book):
@@ -174,3 +184,30 @@ def apart_questions(book):
             asked += [(least_parting, one, its), (parting_paper, one, its), (parting_holds, one, its, paper)]
             asked += [(parting_holds, one, its, (paper[0][:-1], paper[1])), (parting_holds, its, one, paper)]
     return asked
+
+
+def row_questions(book):
+    history = (book[0], [book[1], book[1][:2], [], [0, 3, 0, 3]])
+    asked = [(ask, history, least, most) for ask in (often_rows, closed_rows) for least in (1, 2) for most in (0, 2)]
+    for row in ([], [1], [3, 1], [2, 2], [7, 1, 1]):
+        paper = row_paper(history, row)
+        asked += [(ask, visits, row) for ask in (first_fit, last_fit, short_fit) for visits in history[1]]
+        asked += [(ask, history, row) for ask in (row_count, row_buyers, row_paper)]
+        asked += [(row_holds, history, row, paper), (row_holds, history, row, paper[:-1]), (lies_in, row, [3, 3])]
+    return asked
+
+
+def paper_text_questions(book):
+    asked = []
+    for least in (1, 2, plain.FORTY):
+        for show, read, paper in ((show_whole, read_whole, whole_paper(book, least)),
+                                  (show_closed, read_closed, closed_paper(book, least)),
+                                  (show_parting, read_parting, parting_paper(book, (book[0], [1, 6])))):
+            asked += [(show, paper), (read, show(paper))]
+    return asked
+
+
+def sample_questions(book):
+    places = list(range(len(book[1])))
+    return [(ask, book, least, some, lower) for ask in (from_part, gone_on) for least in (1, 3)
+            for some in ([], places, places[::-2]) for lower in (1, 2, plain.FORTY)]

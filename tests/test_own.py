@@ -19,9 +19,13 @@ from oftenlots.greatest import crossings, greatest, part_all
 from oftenlots.leastlots import all_least, by_closed, by_least, kin, least_lots
 from oftenlots.levels import border, levels, often, whole_holds, whole_paper
 from oftenlots.neighbours import above, baskets_of, below, join, just, longest, meet
+from oftenlots.papertexts import read_closed, read_parting, read_whole, show_closed, show_parting, show_whole
 from oftenlots.paths import cut_tree, ends, grown, order, tree_of
 from oftenlots.rooms import count_again, ends_of_room, filled, lesser_counts, open_lots, room, settled
+from oftenlots.rows import closed_rows, first_fit, last_fit, often_rows, row_buyers, row_holds, row_paper, short_fit
 from oftenlots.rules import brought_on, follow_holds, follows, holds, rule_count, share
+from oftenlots.sample import from_part, gone_on
+from oftenlots.shop import Shop
 from oftenlots.texts import read_day, read_lot, read_rule, show_day, show_lot, show_rule
 
 BAD = object()
@@ -78,6 +82,12 @@ class Kinds(unittest.TestCase):
         for told in (together(5, [2, 3]), [mean(5, [2, 3])], [surprise(BOOKS[0], 3)], [room(1, [(0, 2)])],
                      [ends_of_room(1, [(0, 2)])]):
             self.assertTrue(all([type(part) for part in pair] == [int, int] for pair in told))
+        history = (2, [[1, 2], [3]])
+        for told in (often_rows(history, 1, 2), closed_rows(history, 1, 2)):
+            self.assertTrue(all([type(part) for part in row] == [list, int] for row in told))
+        self.assertTrue(all([type(part) for part in row] == [str, list] for row in row_paper(history, [1, 2])))
+        self.assertEqual([type(part) for part in from_part(BOOKS[0], 1, [0], 1)], [str, list])
+        self.assertEqual([type(part) for part in gone_on(BOOKS[0], 1, [0], 1)], [list, int])
 
 
 class HandedIn(unittest.TestCase):
@@ -192,6 +202,36 @@ class HandedIn(unittest.TestCase):
         self.assertEqual((below(closed, 7), way(closed, 0, 7)), ([1], [0, 1, 7]))
         self.assertEqual(baskets_of(closed), [0, 1, 1, 1, 7])
 
+    def test_changed_histories_and_papers_are_answered_as_they_stand_then(self):
+        visits, row = [1, 3, 2], [1, 2]
+        history = (2, [visits, [2]])
+        fits = (first_fit, last_fit, short_fit)
+        self.assertEqual([fit(visits, row) for fit in fits], [[0, 1], [1, 2], [0, 1]])
+        told = often_rows(history, 2, 1)
+        visits.pop()
+        self.assertEqual([fit(visits, row) for fit in fits], [[0, 1]] * 3)
+        visits.pop()
+        self.assertEqual([fit(visits, row) for fit in fits], [None] * 3)
+        self.assertEqual((row_buyers(history, [2]), often_rows(history, 2, 1)), ([1], [([], 2)]))
+        self.assertEqual(told, [([], 2), ([2], 2)])
+        row.pop()
+        self.assertEqual([fit(visits, row) for fit in fits], [[0]] * 3)
+        paper = read_whole("whole | 0: -1 | none")
+        self.assertEqual(show_whole(paper), "whole | 0: -1 | none")
+        paper[0][0][1].append(5)
+        self.assertEqual(show_whole(paper), "whole | 0: -1 5 | none")
+        self.assertEqual(read_whole("whole | 0: -1 | none"), ([(0, [-1])], []))
+        paper = read_closed("closed | 0 1: 0 rare -")
+        paper[0][2][0][2].append(7)
+        self.assertEqual(show_closed(paper), "closed | 0 1: 0 rare 7")
+        paper = read_parting("parting | 0 1: - / - | by 0")
+        paper[0][0][3].append(2)
+        self.assertEqual(show_parting(paper), "parting | 0 1: - / 2 | by 0")
+        places = [1]
+        self.assertEqual(gone_on(BOOKS[0], 3, places, 1)[1], 0)
+        places.clear()
+        self.assertEqual(from_part(BOOKS[0], 3, places, 1), ("missed", [(0, 7)]))
+
     def test_changing_it_behind_changes_no_answer_of_a_like_one(self):
         first = [ask(*handed) for ask, handed in questions()]
         for ask, handed in questions():
@@ -213,6 +253,11 @@ class HandedIn(unittest.TestCase):
         self.assertIs(parting_holds(book, (2, [0]), paper), True)
         paper[0][0][3].append(0)
         self.assertIs(parting_holds(book, (2, [0]), paper), False)
+        history = (2, [[1, 2], [3]])
+        paper = row_paper(history, [1, 2])
+        self.assertIs(row_holds(history, [1, 2], paper), True)
+        paper[0][1].pop()
+        self.assertIs(row_holds(history, [1, 2], paper), False)
 
 
 class AskersOwn(unittest.TestCase):
@@ -274,6 +319,13 @@ class AskersOwn(unittest.TestCase):
             crossings(book[0], book[1])
             room(1, [(0, len(book[1]))])
             together(len(book[1]), [len(book[1])] * 2)
+            often_rows((book[0], [book[1][:3], book[1][3:6]]), 1, 3)
+            read_closed(show_closed(closed_paper(book, 1)))
+            gone_on(book, 1, [], 1)
+            shop = Shop()
+            shop.say("things a b c d e")
+            shop.say("day a b; c")
+            shop.say("closed")
         self.assertEqual(told, as_told)
         self.assertEqual([ask(*handed) for ask, handed in reversed(questions())], as_told[::-1])
         self.assertEqual(told, as_told)
@@ -337,6 +389,22 @@ class GreatNumbers(unittest.TestCase):
             self.assertEqual(filled(lot + 1, [(0, 4), (1, 2), (lot, 3)], 1), [1, lot, lot, lot + 1])
             with self.assertRaises(NoRoom):
                 filled(lot, [(0, 10 ** 10 - 1)], great)
+
+    def test_of_rows_parts_and_shops(self):
+        great = plain.FORTY
+        history = (12, [[4095] * 7] * 7)
+        with plain.within_seconds(10):
+            self.assertEqual(often_rows(history, great, 6), [])
+            self.assertEqual(often_rows((2, [[1], [2]]), 2, great), [([], 2)])
+            self.assertIs(row_holds(history, [1], [("fits", [great])] * 7), False)
+            self.assertEqual(from_part((8, [255] * 60), great, [3], great), ("whole", []))
+            self.assertEqual(gone_on((8, [255] * 60), great, [3], great), ([], 0))
+            shop = Shop()
+            shop.say("things a b")
+            shop.say(f"need {great}")
+            shop.say("day a; b")
+            told = [shop.say(line) for line in ("closed", f"top {great}", "border")]
+            self.assertEqual(told, ["none", "none", "-: 2"])
 
 
 if __name__ == "__main__":

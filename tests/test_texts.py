@@ -100,8 +100,9 @@ class Refusals(unittest.TestCase):
 
     # No text of a lot, and so of neither a rule's side nor a basket.
     NO_LOTS = ["", " ", "  ", " tea", "tea ", "tea  milk", " -", "- ", "--", "- -", "- tea", "tea -", "none",
-               "tea none", "te", "teaa", "Tea", "TEA", "tea tea", "milk tea", "bun tea", "tea bun milk", "tea milk milk",
-               "tea,milk", "tea;milk", "0", "1", "tea 1", "_", "cocoa", "tea cocoa", "teamilk", "tea=>bun"]
+               "tea none", "te", "teaa", "Tea", "TEA", "tea tea", "milk tea", "bun tea", "tea bun milk",
+               "tea milk milk", "tea,milk", "tea;milk", "0", "1", "tea 1", "_", "cocoa", "tea cocoa",
+               "teamilk", "tea=>bun"]
 
     def test_lots(self):
         for text in self.NO_LOTS + ["tea => bun", "tea; bun", "tea;", "; tea", "- => -"]:
