@@ -270,7 +270,104 @@ class Values(unittest.TestCase):
                     self.assertNotIn(ast.unparse(node.value), walked, where)
 
 
+    def test_views_are_walked_at_once(self):
+        for name, tree in trees():
+            free = []
+            for node in ast.walk(tree):
+                if isinstance(node, (ast.For, ast.comprehension)):
+                    free.append(node.iter)
+                if isinstance(node, ast.Call) and isinstance(node.func, ast.Name) and node.func.id in WALKERS:
+                    free.extend(node.args[:1])
+            for node in ast.walk(tree):
+                if isinstance(node, ast.Call) and isinstance(node.func, ast.Attribute):
+                    if node.func.attr in ("items", "keys", "values"):
+                        self.assertTrue(any(node is one for one in free), f"{name}:{node.lineno}")
+
+    def test_methods_are_called_where_they_stand(self):
+        own = {part.name for where, node in nodes(ast.ClassDef) for part in node.body
+               if isinstance(part, ast.FunctionDef)}
+        for name, tree in trees():
+            called = [node.func for node in ast.walk(tree) if isinstance(node, ast.Call)]
+            for node in ast.walk(tree):
+                if isinstance(node, ast.Attribute) and node.attr in METHODS | own:
+                    self.assertTrue(any(node is one for one in called), f"{name}:{node.lineno}")
+
+    def test_tops_hold_plain_values_that_no_def_changes(self):
+        plain_nodes = (ast.Constant, ast.Tuple, ast.List, ast.Dict, ast.UnaryOp, ast.USub, ast.Load)
+        for name, tree in trees():
+            tops = []
+            for node in tree.body:
+                if isinstance(node, ast.Assign):
+                    tops.append(node.targets[0].id)
+                    for part in ast.walk(node.value):
+                        self.assertIsInstance(part, plain_nodes, f"{name}:{node.lineno}")
+            imported = [alias.name for node in tree.body if isinstance(node, ast.ImportFrom) for alias in node.names]
+            for node in ast.walk(tree):
+                if isinstance(node, ast.Attribute) and isinstance(node.value, ast.Name):
+                    self.assertNotIn(node.value.id, tops + imported, f"{name}:{node.lineno}")
+                if isinstance(node, ast.Subscript) and isinstance(node.ctx, ast.Store):
+                    self.assertNotIn(ast.unparse(node.value), tops, f"{name}:{node.lineno}")
+
+    def test_no_escapes_but_the_plain_ones(self):
+        for path in files():
+            self.assertNotRegex(path.read_text(), r"\\[^nt\\\"']")
+
+    def test_kinds_that_are_asked_for(self):
+        for where, node in nodes(ast.Call):
+            if ast.unparse(node.func) == "isinstance":
+                asked = node.args[1].elts if isinstance(node.args[1], ast.Tuple) else [node.args[1]]
+                kinds = {"int", "str", "bool", "list", "tuple", "dict"}
+                self.assertLessEqual({ast.unparse(one) for one in asked}, kinds, where)
+
+    def test_keys(self):
+        own = {node.name for where, node in nodes(ast.FunctionDef)}
+        listed = own | {"len", "int", "str", "abs", "sum", "min", "max", "tuple"}
+        for where, node in nodes(ast.keyword):
+            if node.arg == "key" and not isinstance(node.value, ast.Lambda):
+                self.assertIn(ast.unparse(node.value), listed, where)
+            if node.arg in ("reverse", "strict"):
+                self.assertIsInstance(node.value, ast.Constant, where)
+
+
 class Objects(unittest.TestCase):
+    def test_imports_bear_their_own_names_and_the_packages_file_binds_none(self):
+        for where, node in nodes(ast.alias):
+            self.assertIsNone(node.asname, where)
+        tree = ast.parse((PACKAGE / "__init__.py").read_text())
+        self.assertEqual(list(bound_names(tree)), [])
+        self.assertEqual([node for node in ast.walk(tree) if isinstance(node, ast.ImportFrom)], [])
+
+    def test_errors_are_taken_by_the_names_of_own_ones(self):
+        classes = {node.name for where, node in nodes(ast.ClassDef)}
+        for where, node in nodes(ast.ExceptHandler):
+            taken = node.type.elts if isinstance(node.type, ast.Tuple) else [node.type]
+            for one in taken:
+                self.assertIn(ast.unparse(one), classes | {"KeyError", "ZeroDivisionError", "StopIteration"}, where)
+
+    def test_classes_are_only_called_raised_taken_or_bases(self):
+        classes = {node.name for where, node in nodes(ast.ClassDef)}
+        for name, tree in trees():
+            free = []
+            for node in ast.walk(tree):
+                if isinstance(node, ast.Call):
+                    free.append(node.func)
+                if isinstance(node, ast.ClassDef):
+                    free.extend(node.bases)
+                if isinstance(node, ast.ExceptHandler):
+                    free.extend(ast.walk(node.type))
+            for node in ast.walk(tree):
+                if isinstance(node, ast.Name) and node.id in classes:
+                    self.assertTrue(any(node is one for one in free), f"{name}:{node.lineno}")
+
+    def test_values_are_given_through_local_names(self):
+        for name, tree in trees():
+            tops = {node.name for node in tree.body if isinstance(node, (ast.FunctionDef, ast.ClassDef))}
+            tops |= {alias.name for node in tree.body if isinstance(node, ast.ImportFrom) for alias in node.names}
+            for node in ast.walk(tree):
+                if isinstance(node, ast.Attribute) and isinstance(node.ctx, ast.Store):
+                    self.assertIsInstance(node.value, ast.Name, f"{name}:{node.lineno}")
+                    self.assertNotIn(node.value.id, tops, f"{name}:{node.lineno}")
+
     def test_methods_and_values_have_names_of_their_own(self):
         methods = [part.name for where, node in nodes(ast.ClassDef) for part in node.body
                    if isinstance(part, ast.FunctionDef) and part.name != "__init__"]
