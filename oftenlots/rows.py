@@ -129,8 +129,8 @@ def row_holds(history, row, paper):
 def entry_is_right(visits, row, entry):
     if entry[0] == "fits":
         return places_fit(visits, row, entry[1])
-    # Where visits are stuck, nothing else than the told entry is right.
-    return entry[0] == "stuck" and entry == buyer_entry(visits, row)
+    # Where visits are stuck, nothing but the told entry is right.
+    return entry == buyer_entry(visits, row)
 
 
 def places_fit(visits, row, places):
